@@ -1,0 +1,1 @@
+"""Waysum: all ways of a net put together by any two deeds."""
