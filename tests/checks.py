@@ -22,6 +22,14 @@ class Checks(unittest.TestCase):
             for part in told:
                 self.assertIs(type(part), int, told)
 
+    def same_rows(self, told, wanted):
+        self.assertIs(type(told), list)
+        self.assertEqual(told, wanted)
+        for row, wanted_row in zip(told, wanted):
+            self.assertIs(type(row), list)
+            for worth, wanted_worth in zip(row, wanted_row):
+                self.same(worth, wanted_worth)
+
     def either_order(self, deed, one, other, wanted):
         with self.subTest(deed=deed.__name__, one=one, other=other):
             self.same(deed(one, other), wanted)

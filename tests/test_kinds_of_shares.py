@@ -123,6 +123,11 @@ class OfChances(Checks):
         for one in [(1, 1)] + ABOVE_ONE:
             self.refused(NoSum, self.kind.rounds, one)
 
+    def test_rounds_refuses_shares_of_thousands_of_figures(self):
+        # As a kind's own sums may have them; Python turns no such number into a text.
+        with self.assertRaises(NoSum):
+            self.kind.rounds((10 ** 5000 + 1, 10 ** 5000))
+
     def test_a_refusal_leaves_nothing_behind(self):
         self.refused(NoSum, self.kind.rounds, (1, 1))
         self.same(self.kind.rounds((1, 2)), (2, 1))

@@ -1,6 +1,7 @@
 """The rules of the small part of Python that the package keeps to, as far as a program can see them."""
 
 import ast
+import builtins
 import pathlib
 import re
 import unittest
@@ -119,6 +120,7 @@ class TheFiles(unittest.TestCase):
                     self.assertIn(type(node.value), (int, str, bool, type(None)))
                 if isinstance(node, ast.Assign):
                     self.assertEqual(len(node.targets), 1)
+                    self.assertIsInstance(node.targets[0], (ast.Name, ast.Attribute, ast.Subscript))
                 if isinstance(node, (ast.For, ast.While)):
                     self.assertEqual(node.orelse, [])
                 if isinstance(node, ast.Try):
@@ -166,6 +168,33 @@ class TheFiles(unittest.TestCase):
                     self.assertIn(node.func.attr, METHODS | methods | UNDERSCORED)
 
         self.in_each_file(check)
+
+    def test_no_parameter_or_local_is_called_like_a_class_an_import_or_a_name_of_pythons_own(self):
+        def check(path, text, tree):
+            taken = set(dir(builtins))
+            for node in tree.body:
+                if isinstance(node, ast.ImportFrom):
+                    taken |= {each.asname or each.name for each in node.names}
+                if isinstance(node, ast.ClassDef):
+                    taken.add(node.name)
+            for node in ast.walk(tree):
+                if isinstance(node, ast.arg):
+                    self.assertNotIn(node.arg, taken)
+                if isinstance(node, ast.Name) and isinstance(node.ctx, ast.Store):
+                    self.assertNotIn(node.id, taken)
+
+        self.in_each_file(check)
+
+    def test_no_two_files_draw_from_one_another(self):
+        drawn = {}
+        for path, text, tree in parsed():
+            froms = [node.module.split(".")[1] for node in ast.walk(tree) if isinstance(node, ast.ImportFrom)]
+            drawn[path.stem] = set(froms)
+        while drawn:
+            free = [name for name in drawn if not drawn[name] & set(drawn)]
+            self.assertNotEqual(free, [], drawn)
+            for name in free:
+                drawn.pop(name)
 
     def test_no_name_is_a_method_here_and_a_value_there(self):
         trees = [tree for path, text, tree in parsed()]

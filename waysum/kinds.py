@@ -40,6 +40,10 @@ class Kind:
     def picks(self):
         return False
 
+    # Asked of all roads that go from one place, ahead of whether what each has is a worth.
+    def may_start_together(self, somes):
+        return True
+
 
 class Fewest(Kind):
     def none(self):
@@ -155,9 +159,17 @@ class Chances(Kind):
     def rounds(self, one):
         lacking = lacking_to_one(one)
         if lacking[0] <= 0:
-            raise NoSum(f"nothing is lacking to 1 in the share {one}")
+            # The share isn't named: Python turns no number of some thousand figures into a text.
+            raise NoSum("nothing is lacking to 1")
         # 1 by a share is that share turned over.
         return (lacking[1], lacking[0])
+
+    def may_start_together(self, somes):
+        all_of_them = self.none()
+        for some in somes:
+            if is_share(some):
+                all_of_them = added(all_of_them, some)
+        return lacking_to_one(all_of_them)[0] >= 0
 
 
 class Musts(Kind):

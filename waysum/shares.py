@@ -25,7 +25,10 @@ def added(one, other):
 
 
 def multiplied(one, other):
-    return lowest(one[0] * other[0], one[1] * other[1])
+    # Crosswise ahead of the product: the divisor of a long and a short number is found far sooner.
+    left = lowest(one[0], other[1])
+    right = lowest(other[0], one[1])
+    return (left[0] * right[0], left[1] * right[1])
 
 
 def greater(one, other):
